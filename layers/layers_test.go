@@ -142,3 +142,46 @@ func TestLayout(t *testing.T) {
 		}
 	}
 }
+
+// ways is which of the language's ways the document asks of which layers.
+func ways() map[string]string {
+	return map[string]string{
+		"rate":   "fallthrough",
+		"shell":  "fallthrough",
+		"frame":  "errors.Is errors.As",
+		"script": "errors.Is errors.As",
+	}
+}
+
+// leansOn are those of these ways on which a file leans.
+func leansOn(s source) []string {
+	var l []string
+	ast.Inspect(s.file, func(n ast.Node) bool {
+		switch x := n.(type) {
+		case *ast.BranchStmt:
+			if x.Tok == token.FALLTHROUGH {
+				l = append(l, "fallthrough")
+			}
+		case *ast.SelectorExpr:
+			if p, ok := x.X.(*ast.Ident); ok {
+				l = append(l, p.Name+"."+x.Sel.Name)
+			}
+		}
+		return true
+	})
+	return l
+}
+
+func TestWays(t *testing.T) {
+	for layer, asked := range ways() {
+		var l []string
+		for _, s := range sources(t, layer) {
+			l = append(l, leansOn(s)...)
+		}
+		for _, way := range strings.Fields(asked) {
+			if !slices.Contains(l, way) {
+				t.Errorf("%s doesn't lean on %s", layer, way)
+			}
+		}
+	}
+}
